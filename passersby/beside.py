@@ -19,7 +19,9 @@ def beside(one, other, word):
 
 def paired_truth(one, other, word):
     """What a pair says, of what its rooms say."""
-    return one and other if word == "both" else one or other
+    if word == "both":
+        return one and other
+    return one or other
 
 
 def paired_meets(one, other):
