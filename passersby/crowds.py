@@ -3,6 +3,7 @@
 from passersby.errors import NoMeeting
 from passersby.kinds import is_tuple_of
 from passersby.kinds import is_whole
+from passersby.kinds import is_within
 
 
 def is_crowd(rule, thing):
@@ -55,13 +56,46 @@ def met(rule, crowd, number):
 
 def walked(rule, crowd, numbers):
     """The crowd behind a row of meetings, or NoMeeting of the first place that can't be."""
+    crowds = passed(rule, crowd, numbers)
+    if len(crowds) <= len(numbers):
+        raise NoMeeting(len(crowds) - 1)
+    return crowds[-1]
+
+
+def passed(rule, crowd, things):
+    """The crowds passed by a row of things, the first one too, up to a thing that is no meeting's that can be there."""
     meets = rule[2]
-    here = crowd
-    for place, number in enumerate(numbers):
-        if not 0 <= number < len(meets) or not can_be(here, meets[number]):
-            raise NoMeeting(place)
-        here = led_to(here, meets[number])
-    return here
+    crowds = [crowd]
+    for thing in things:
+        here = crowds[-1]
+        if not is_within(thing, 0, len(meets) - 1) or not can_be(here, meets[thing]):
+            return crowds
+        crowds.append(led_to(here, meets[thing]))
+    return crowds
+
+
+def pairs_of(rule):
+    """The number of each meeting, by the two rooms that meet."""
+    pairs = {}
+    for number, meeting in enumerate(rule[2]):
+        pairs[meeting[:2]] = number
+    return pairs
+
+
+def leads_at(rule, pairs, crowd):
+    """A tuple (number, crowd) for each meeting that can be at a crowd, and what it leads to; by numbers, rising.
+
+    The rooms with hands are walked, not the meetings: most crowds leave most rooms of a great rule empty.
+    """
+    meets = rule[2]
+    rooms = [room for room, many in enumerate(crowd) if many > 0]
+    leads = []
+    for place, a in enumerate(rooms):
+        for b in rooms[place:]:
+            number = pairs.get((a, b))
+            if number is not None and can_be(crowd, meets[number]):
+                leads.append((number, led_to(crowd, meets[number])))
+    return leads
 
 
 def said(rule, crowd):
