@@ -33,6 +33,8 @@ EXPRESSIONS = (ast.Constant, ast.List, ast.Tuple, ast.Dict, ast.Set, ast.BinOp, 
                ast.FormattedValue, ast.Name, ast.Lambda)
 
 ON_THE_SPOT = {"zip", "enumerate", "reversed", "range"}
+CHANGES = set("append clear extend insert pop remove reverse setdefault update".split())
+VIEWS = {"items", "keys", "values"}
 WALKERS = {"list", "tuple", "dict", "sorted", "sum", "any", "all", "enumerate", "zip", "min", "max"}
 KEYWORDS = {"sorted": {"key", "reverse"}, "min": {"key", "default"}, "max": {"key", "default"}, "sum": {"start"},
             "enumerate": {"start"}, "zip": {"strict"}}
@@ -240,9 +242,22 @@ class Language(unittest.TestCase):
                 elif called(node) in WALKERS and node.args:
                     spots.add(id(node.args[0]))
             for node in ast.walk(tree):
-                if called(node) in ON_THE_SPOT:
+                viewed = isinstance(node, ast.Call) and isinstance(node.func, ast.Attribute) and node.func.attr in VIEWS
+                if viewed or called(node) in ON_THE_SPOT:
                     self.assertIn(id(node), spots, f"{path.name}:{node.lineno}")
                 self.assertNotIn(called(node), ("set", "frozenset"), path)
+
+    def test_what_is_walked_is_not_changed(self):
+        for place, loop in self.nodes(ast.For):
+            walked = {node.id for node in ast.walk(loop.iter) if isinstance(node, ast.Name)}
+            for node in [part for row in loop.body for part in ast.walk(row)]:
+                changed = None
+                if isinstance(node, ast.Call) and isinstance(node.func, ast.Attribute) and node.func.attr in CHANGES:
+                    changed = node.func.value
+                elif isinstance(node, ast.Subscript) and isinstance(node.ctx, ast.Store):
+                    changed = node.value
+                if isinstance(changed, ast.Name):
+                    self.assertNotIn(changed.id, walked, place)
 
     def test_the_first_method(self):
         for place, node in self.nodes(ast.FunctionDef):
