@@ -61,6 +61,11 @@ def nought(rooms, sorts):
     return (0, (0,) * rooms, (0,) * sorts)
 
 
+def unit(rooms, sorts, room):
+    """The form of the hands in a room."""
+    return (0, tuple([1 if here == room else 0 for here in range(rooms)]), (0,) * sorts)
+
+
 def against(form):
     """The form whose value is the given one's, taken from 0."""
     return summed(nought(len(form[1]), len(form[2])), form, -1)

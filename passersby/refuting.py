@@ -41,16 +41,17 @@ def refutes_at(depth, rooms, sorts, facts, thing):
     """Whether it refutes the facts, where it is the so manieth of those within one another."""
     if depth > MOST_WITHIN or not isinstance(thing, tuple) or len(thing) == 0:
         return False
-    word = thing[0]
-    if word == "sum":
+    if thing[0] == "sum":
         return len(thing) == 2 and refutes_by_sum(rooms, sorts, facts, thing[1])
-    if word == "rest":
+    if thing[0] == "rest":
         return len(thing) == 3 and refutes_by_rest(rooms, sorts, facts, thing[1], thing[2])
-    if word == "split":
-        return len(thing) == 4 and refutes_by_split(depth, rooms, sorts, facts, thing)
-    if word == "cases":
-        return len(thing) == 4 and refutes_by_cases(depth, rooms, sorts, facts, thing)
-    return word == "know" and len(thing) == 4 and refutes_by_know(depth, rooms, sorts, facts, thing)
+    branches = branches_at(depth, rooms, sorts, facts, thing)
+    if branches is None:
+        return False
+    for fact, part in branches:
+        if not refutes_at(depth + 1, rooms, sorts, facts + (fact,), part):
+            return False
+    return True
 
 
 def refutes_by_sum(rooms, sorts, facts, times):
@@ -98,31 +99,43 @@ def come_together(rooms, sorts, facts, times):
     return form
 
 
-def refutes_by_split(depth, rooms, sorts, facts, thing):
-    """Whether the facts are refuted where a form is 0 or more, and where it is below 0."""
+def branches_at(depth, rooms, sorts, facts, thing):
+    """What stands in a split, cases or know of that depth, each part with the fact behind those that it goes on from.
+
+    None where it is none of these, or what it knows is not shown. Some one of the facts always holds where those that
+    are known do, so it is enough to go on from each of them. Trees have the same kinds as refutations.
+    """
+    if len(thing) != 4:
+        return None
+    if thing[0] == "split":
+        return split_branches(rooms, sorts, thing)
+    if thing[0] == "cases":
+        return cases_branches(rooms, sorts, thing)
+    if thing[0] == "know":
+        return know_branches(depth, rooms, sorts, facts, thing)
+    return None
+
+
+def split_branches(rooms, sorts, thing):
+    """Where a form is 0 or more, and where it is below 0."""
     if not is_form(rooms, sorts, thing[1]):
-        return False
+        return None
     least = ("least", thing[1])
-    if not refutes_at(depth + 1, rooms, sorts, facts + (least,), thing[2]):
-        return False
-    return refutes_at(depth + 1, rooms, sorts, facts + (not_of(least),), thing[3])
+    return [(least, thing[2]), (not_of(least), thing[3])]
 
 
-def refutes_by_cases(depth, rooms, sorts, facts, thing):
-    """Whether the facts are refuted for each rest that a form may leave."""
+def cases_branches(rooms, sorts, thing):
+    """For each rest that a form may leave."""
     form = thing[1]
     m = thing[2]
     if not is_form(rooms, sorts, form) or not is_within(m, 2, MOST_CASES) or not is_tuple_of(thing[3], m):
-        return False
-    for k, part in enumerate(thing[3]):
-        if not refutes_at(depth + 1, rooms, sorts, facts + (("rest", plus(form, -k), m),), part):
-            return False
-    return True
+        return None
+    return [(("rest", plus(form, -k), m), part) for k, part in enumerate(thing[3])]
 
 
-def refutes_by_know(depth, rooms, sorts, facts, thing):
-    """Whether a fact is shown, and the facts are refuted with it."""
+def know_branches(depth, rooms, sorts, facts, thing):
+    """With a fact that is shown from the others."""
     fact = thing[1]
     if not is_fact(rooms, sorts, fact) or not shows_at(depth + 1, rooms, sorts, facts, fact, thing[2]):
-        return False
-    return refutes_at(depth + 1, rooms, sorts, facts + (fact,), thing[3])
+        return None
+    return [(fact, thing[3])]
