@@ -4,8 +4,9 @@ import itertools
 import random
 
 from passersby.crowds import begun, can, met, said
+from passersby.fewer import fewer
 from passersby.paperchecker import stages_at
-from passersby.questions import holds
+from passersby.questions import holds, is_question
 
 MORE = (4, (0, 1), ((0, 1, 2, 3), (0, 3, 0, 2), (1, 2, 1, 3), (2, 3, 3, 3)), (True, False, True, False))
 
@@ -475,3 +476,110 @@ def walks_by(test, rule, question, paper, counts, steps=150, many=3):
                 later = [s for s in there if s >= number] if paper[1][number][0] == "on" else [s for s in there if s == number]
                 test.assertTrue(later, (counts, crowd))
             here = there
+
+
+def grown_rule(dice, rule, rooms):
+    """A rule of so many rooms that made fewer is the given one; None where dice did not come to one."""
+    places = list(range(rule[0])) + [dice.choice([None] + list(range(rule[0]))) for more in range(rooms - rule[0])]
+    dice.shuffle(places)
+    # Parts are numbered by their least rooms.
+    order = list(dict.fromkeys(place for place in places if place is not None))
+    places = tuple(None if place is None else order.index(place) for place in places)
+    at = [[room for room in range(rooms) if places[room] == place] for place in range(rule[0])]
+    turns = {meeting[:2]: meeting[2:] for meeting in rule[2]}
+    meets = []
+    for x, y in itertools.combinations_with_replacement(range(rooms), 2):
+        if places[x] is None or places[y] is None:
+            turned = [dice.randrange(rooms), dice.randrange(rooms)]
+        else:
+            pair = tuple(sorted((places[x], places[y])))
+            turned = [dice.choice(at[place]) for place in turns.get(pair, pair)]
+        dice.shuffle(turned)
+        if sorted(turned) != [x, y]:
+            meets.append((x, y) + tuple(turned))
+    starts = tuple(dice.choice(at[start]) for start in rule[1])
+    says = tuple(dice.random() < 0.5 if place is None else rule[3][place] for place in places)
+    grown = (rooms, starts, tuple(meets), says)
+    return grown if fewer(grown) == (rule, places) else None
+
+
+def grown_rules(seed, rule, rooms, many):
+    """Several such rules."""
+    dice = random.Random(seed)
+    tried = [grown_rule(dice, rule, rooms) for again in range(60 * many)]
+    return [grown for grown in tried if grown][:many]
+
+
+def deepened(given, rows, deep, dice):
+    """A paper with all its first trees and refutations wrapped till so many stand within one another."""
+    rule, question, few, paper = given
+    for path, many, is_tree in roots_of(rule, rows, paper):
+        thing = part_at(paper, path)
+        while height(thing) < deep:
+            thing = wrapped(dice.choice(WRAPS), rule[0], len(rule[1]), many, thing, is_tree)
+        paper = with_part(paper, path, thing)
+    return (rule, question, few, paper)
+
+
+def with_facts(given, rows, most, fact, shown):
+    """A paper with a fact told again and again behind those of each stage; shown tells what shows it behind so many.
+
+    Where the fact is None each stage tells its own first one again.
+    """
+    rule, question, few, paper = given
+    more = [most - len(stage[1]) for stage in paper[1]]
+    for path, many, is_tree in roots_of(rule, rows, paper):
+        thing = more_shown(part_at(paper, path), many, more, shown)
+        if path[0] == 1:
+            own = len(paper[1][path[1]][1])
+            for again in range(more[path[1]]):
+                thing = pushed(thing, own)
+        paper = with_part(paper, path, thing)
+    stages = tuple(changed_at(stage, 1, stage[1] + (fact or stage[1][0],) * many) for stage, many in zip(paper[1], more))
+    return (rule, question, few, (paper[0], stages))
+
+
+def more_shown(thing, many, more, shown):
+    """A tree that shows so many more facts of each stage that it leads to."""
+    if thing[0] == "in":
+        return thing[:2] + (thing[2] + (shown(many) if shown else thing[2][0],) * more[thing[1]],)
+    if thing[0] in ("split", "cases", "know"):
+        for path, push in inner_parts(thing):
+            if path[0] == 3 or thing[0] == "split":
+                thing = with_part(thing, path, more_shown(part_at(thing, path), many + push, more, shown))
+    return thing
+
+
+def with_stages(given, most):
+    """A paper with more stages behind its own: its first end again, each with its own number where it leads to itself."""
+    rule, question, few, (begin, stages) = given
+    number = [stage[0] for stage in stages].index("end")
+    more = []
+    for place in range(len(stages), most):
+        closed = tuple(changed_at(tree, 1, place) if tree[0] == "in" else tree for tree in stages[number][5])
+        more.append(changed_at(stages[number], 5, closed))
+    return (rule, question, few, (begin, stages + tuple(more)))
+
+
+def drawn_question(dice, sorts):
+    """A question by dice, of at most seven and at most four deep."""
+    while True:
+        question = drawn_part(dice, sorts, 1)
+        if is_question(sorts, question):
+            return question
+
+
+def drawn_part(dice, sorts, deep):
+    word = dice.choice(("least", "more", "rest") + ("both", "either", "not") * (2 if deep < 4 else 0))
+    if word in ("both", "either"):
+        return (word, drawn_part(dice, sorts, deep + 1), drawn_part(dice, sorts, deep + 1))
+    if word == "not":
+        return (word, drawn_part(dice, sorts, deep + 1))
+    if word == "more":
+        sides = [dice.randrange(3) for sort in range(sorts)]
+        return (word,) + tuple(tuple(sort for sort in range(sorts) if sides[sort] == side) for side in (1, 2))
+    some = tuple(sorted(dice.sample(range(sorts), dice.randrange(1, sorts + 1))))
+    if word == "least":
+        return (word, some, dice.choice((1, 1, 1, 2, 2, 3, 5, 9)))
+    m = dice.choice((2, 2, 3, 4, 9))
+    return (word, some, m, dice.randrange(m))
