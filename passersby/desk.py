@@ -76,9 +76,7 @@ class Desk:
         self.kept_counts = None
 
     def take_rule(self, rows):
-        """Keep a rule told by rows, the question in the last one; or NoText."""
-        if len(rows) == 0:
-            raise NoText(0, 0)
+        """Keep a rule told by rows, the question in the last one; or NoText, of no rows as of a rule's that lack."""
         rule = read_rule(rows[:-1])
         row = Row(len(rows) - 1, rows[-1])
         row.take_word(("ask",))

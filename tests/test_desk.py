@@ -89,6 +89,11 @@ class Right(Desks):
         self.assertEqual(desk.say("ends"), str(len(ends_of(ROCKING, (5, 0, 0)))))
         self.said(desk, ("answers", "no"), ("truth", "yes"))
 
+    def test_the_truth_is_that_of_the_beginning(self):
+        desk = self.at("make 2 least 1 2")
+        self.said(desk, ("begin 1,3", "ok"), ("crowd", "1,3,0"), ("truth", "yes"), ("says", "no"), ("meet 1", "ok"),
+                  ("truth", "yes"), ("says", "both"), ("begin 3,1", "ok"), ("crowd", "3,1,0"), ("truth", "no"), ("says", "no"))
+
     def test_great_beginnings(self):
         desk = self.at("make 2 more 0 1")
         self.said(desk, ("begin 1000000,999999", "ok"), ("truth", "yes"), ("meet 0", "ok"), ("crowd", "999999,999998,1,1"),
@@ -110,6 +115,11 @@ class Right(Desks):
             self.said(desk, ("\n".join(["rule"] + rows + ["ask " + text]), "ok"), ("check", "yes"))
             self.said(desk, ("\n".join(["rule"] + rows + ["ask not " + text]), "ok"), ("check", "no"))
             self.said(desk, ("\n".join(["rule"] + rows[:-1] + ["ask " + text]), "ok"), ("check", "no"))
+        # Hands exchanged: the paper would be let by all the same, but it is not the made rule.
+        rows = shown_rule(made(("more", (0,), (1,)), 2))
+        self.assertEqual(rows[3], "meet 0 1 2 3")
+        self.said(self.at("\n".join(["rule"] + rows[:3] + ["meet 0 1 3 2"] + rows[4:] + ["ask more 0 1"])), ("check", "no"),
+                  ("err 4", "none"))
         # Made, but of more than twelve rooms; and of a question whose made rule would have too many.
         self.said(self.at("make 1 both least 0 6 least 0 1"), ("rows", "; ".join(shown_rule(made(
             ("both", ("least", (0,), 6), ("least", (0,), 1)), 1)))), ("check", "no"))
