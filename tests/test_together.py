@@ -6,14 +6,15 @@ import unittest
 
 from passersby.asked import rows_of
 from passersby.beside import beside
-from passersby.making import made, turned
+from passersby.carrying import carried
+from passersby.making import made, rooms_for, turned
 from passersby.paperchecker import lets_paper
 from passersby.papers import paper_of, turned_paper
 from passersby.questions import is_question
 from passersby.together import put_together
 from tests.samples import (
-    TELLING, alone_paper, bounds_of, deepened, few_paper, hand_papers, odd_paper, ones, telling_paper, two_paper, walks_by,
-    with_facts, with_stages)
+    TELLING, alone_paper, bounds_of, deepened, drawn_question, few_paper, grown_rules, hand_papers, odd_paper, ones,
+    telling_paper, two_paper, walks_by, with_facts, with_stages)
 
 WORDS = ("both", "either")
 
@@ -165,6 +166,49 @@ class Together(unittest.TestCase):
             pair = self.look_at(words[0], one, two)
             self.look_at(words[2], self.look_at(words[1], pair, three), four)
             self.look_at(words[2], pair, self.look_at(words[1], three, four))
+
+    def test_drawn_rows_of_steps(self):
+        # Papers turned, carried and put together, one behind the other.
+        dice = random.Random(35)
+        done = {"turn": 0, "carry": 0, "pair": 0}
+        for again in range(120):
+            given = self.drawn_given(dice)
+            for step in range(dice.randrange(2, 6)):
+                word = dice.choice(("turn", "carry", "pair", "pair"))
+                new = self.drawn_step(dice, word, given)
+                if new is not None:
+                    given = new
+                    done[word] += 1
+                    self.assertIs(lets_paper(*given), True, given[:3])
+        self.assertGreater(min(done.values()), 30)
+
+    def drawn_given(self, dice):
+        """A paper by hand, perhaps a heavy one, or a told one."""
+        if dice.random() < 0.4:
+            sorts = dice.choice((1, 2))
+            question = drawn_question(dice, sorts)
+            return made_given(question, sorts) if rooms_for(question) <= 6 else self.drawn_given(dice)
+        given = dice.choice(hand_papers())
+        if dice.random() < 0.4:
+            return given
+        stages = dice.randrange(len(given[3][1]), 13)
+        return heavy(given, stages, dice.randrange(3, 13), dice.randrange(1, 11), dice.random(), dice.random() < 0.5)
+
+    def drawn_step(self, dice, word, given):
+        """What comes of a paper by one step, None where it can't be taken."""
+        sorts = len(given[0][1])
+        if word == "turn":
+            return turned_given(given) if is_question(sorts, ("not", given[1])) else None
+        if word == "carry":
+            rules = grown_rules(dice.random(), given[0], dice.randrange(given[0][0], 13), 1)
+            return (rules[0],) + given[1:3] + (carried(rules[0], given[3]),) if rules else None
+        other = self.drawn_given(dice)
+        word = dice.choice(WORDS)
+        if len(other[0][1]) != sorts or not is_question(sorts, (word, given[1], other[1])):
+            return None
+        if given[0][0] * other[0][0] > 12 or len(given[3][1]) * len(other[3][1]) > 80:
+            return None
+        return self.look_at(word, given, other)
 
     def test_along_walks(self):
         pair = pair_of("either", odd_paper(), two_paper())
